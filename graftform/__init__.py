@@ -1,0 +1,1 @@
+"""Graftform: turners of nested documents, from form to form."""
