@@ -226,6 +226,13 @@ class Changes(RefusalCase):
             for name in ("", "abcdefghi", "Z", "z\n", " z", None, 5, True, ("a",), ["a"], b"a"):
                 self.assert_refused(NoName, {"name": name}, docs.renamed, DOC, place, name)
 
+    def test_what_is_no_tuple_is_no_place(self):
+        for place in ([], [0], "", "0", None, 0, {}):
+            self.assert_refused(NoPlace, {"place": place}, docs.at_place, DOC, place)
+            self.assert_refused(NoPlace, {"place": place}, docs.put_in, DOC, place, LEAF)
+            self.assert_refused(NoPlace, {"place": place}, docs.taken_out, DOC, place)
+            self.assert_refused(NoPlace, {"place": place}, docs.renamed, DOC, place, "")
+
     def test_changes_undo_one_another(self):
         for size in range(1, 5):
             for doc in small_docs(size):
