@@ -57,16 +57,27 @@ def height_of(doc):
     return height
 
 
+def laid_out(doc):
+    """For each place in order a tuple: the place, the name there, the list of the numbers of its children.
+
+    A place's number is where it stands in this order, so children have greater ones than what is above them.
+    """
+    laid = []
+    waiting = [((), doc, None)]
+    while waiting:
+        place, here, above = waiting.pop()
+        number = len(laid)
+        laid.append((place, here[0], []))
+        if above is not None:
+            laid[above][2].append(number)
+        below = [(place + (k,), child, number) for k, child in enumerate(here[1])]
+        waiting.extend(below[::-1])
+    return laid
+
+
 def places_of(doc):
     """The places of a document in order: each ahead of those below it, child by child."""
-    places = []
-    waiting = [((), doc)]
-    while waiting:
-        place, here = waiting.pop()
-        places.append(place)
-        below = [(place + (k,), child) for k, child in enumerate(here[1])]
-        waiting.extend(below[::-1])
-    return places
+    return [place for place, name, below in laid_out(doc)]
 
 
 def line_down(doc, place):
