@@ -1,7 +1,8 @@
-"""Machines: the one of a book, and what a machine tells of documents (points 17 and 19)."""
+"""Machines: the one of a book, and what a machine tells of documents and states (points 17 and 19)."""
 
 from graftform.coming import numbered
 from graftform.docs import laid_out
+from graftform.errors import NoForm
 from graftform.rows import LeftSets
 
 
@@ -44,14 +45,19 @@ def machine_of(book):
     return (tuple([rule[0] for rule in book]), tuple(names), starts, steps, tuple(marks))
 
 
+def start_of(machine, name):
+    """The state of a document of this name without children."""
+    forms, names, starts, steps, marks = machine
+    return starts[names.index(name)] if name in names else starts[-1]
+
+
 def states_of(machine, laid):
     """The states of what stands at each place of a document that is laid out, by the places' numbers."""
-    forms, names, starts, steps, marks = machine
-    numbers = {name: k for k, name in enumerate(names)}
+    steps = machine[3]
     states = {}
     for number in reversed(range(len(laid))):
         place, name, below = laid[number]
-        state = starts[numbers.get(name, len(names))]
+        state = start_of(machine, name)
         for child in below:
             state = steps[state][states[child]]
         states[number] = state
@@ -73,3 +79,12 @@ def marked(machine, doc):
     laid = laid_out(doc)
     states = states_of(machine, laid)
     return [(place, forms_of(machine, states[number])) for number, (place, name, below) in enumerate(laid)]
+
+
+def having(machine, form):
+    """For each state whether its documents have the form, or NoForm."""
+    forms, names, starts, steps, marks = machine
+    if form not in forms:
+        raise NoForm(form)
+    k = forms.index(form)
+    return [mark >> k & 1 == 1 for mark in marks]

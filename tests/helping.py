@@ -55,3 +55,9 @@ def small_rows(size, names):
         for doc in small_docs(first, names):
             found.extend((doc,) + rest for rest in small_rows(size - first, names))
     return found
+
+
+def counter(many, forms="f", at=0):
+    """A machine that counts the places beyond the first, from nought again behind so many; one state has all forms."""
+    steps = tuple(tuple((p + q + 1) % many for q in range(many)) for p in range(many))
+    return tuple(forms), (), (0,), steps, tuple((2 ** len(forms) - 1) * (state == at) for state in range(many))

@@ -310,3 +310,71 @@ def sample_machine(chance, many, forms="fg", names="ab"):
     steps = tuple(tuple(chance.randrange(many) for _ in range(many)) for _ in range(many))
     marks = tuple(chance.randrange(2 ** len(forms)) for _ in range(many))
     return tuple(forms), tuple(sorted(names)), starts, steps, marks
+
+
+def least_sizes(firsts, step):
+    """Point 22: the least number of places for each state that comes of these starts by this step."""
+    sizes = {first: 1 for first in firsts}
+    changed = True
+    while changed:
+        changed = False
+        for p, q in product(list(sizes), repeat=2):
+            size = sizes[p] + sizes[q]
+            if size < sizes.get(step(p, q), size + 1):
+                sizes[step(p, q)] = size
+                changed = True
+    return sizes
+
+
+def machine_sizes(machine):
+    return least_sizes(machine[2], lambda p, q: machine[3][p][q])
+
+
+def pair_starts(one, other):
+    """The names of two machines and the pairs of states of documents without children."""
+    names = sorted({*one[1], *other[1]})
+    docs = [(name, ()) for name in names] + [("nosuch", ())]
+    return names, [(state(one, doc), state(other, doc)) for doc in docs]
+
+
+def pair_step(one, other):
+    return lambda pair, child: (one[3][pair[0]][child[0]], other[3][pair[1]][child[1]])
+
+
+def in_form(machine, number, form):
+    return machine[4][number] // 2 ** machine[0].index(form) % 2 == 1
+
+
+def held_step(machine, is_held):
+    """Pairs of a state and whether what is held stands below the top."""
+    return lambda here, child: (machine[3][here[0]][child[0]], here[1] or child[1] or is_held(child[0]))
+
+
+def stands(machine, form):
+    """Point 25, for each state apart: whether documents with the form come that hold one of that state."""
+    found = []
+    for held in range(len(machine[4])):
+        step = held_step(machine, lambda number, held=held: number == held)
+        come = least_sizes([(start, False) for start in machine[2]], step)
+        found.append(any(in_form(machine, here, form) and (below or here == held) for here, below in come))
+    return tuple(found)
+
+
+def made_states(machine, makings):
+    """The states of what each entry of makings makes, where entries are as point 23 tells; else a failure."""
+    states = []
+    for entry in makings:
+        if len(entry) == 1:
+            assert re.fullmatch("[a-z]{1,8}", entry[0])
+            states.append(state(machine, (entry[0], ())))
+        else:
+            assert all(0 <= number < len(states) for number in entry) and len(entry) == 2
+            states.append(machine[3][states[entry[0]]][states[entry[1]]])
+    return states
+
+
+def made_size(makings):
+    sizes = []
+    for entry in makings:
+        sizes.append(1 if len(entry) == 1 else sizes[entry[0]] + sizes[entry[1]])
+    return sizes[-1]
