@@ -5,8 +5,8 @@ from graftform.bounds import BOOK_RULES
 from graftform.docs import is_letter, is_name
 from graftform.errors import NoBook, NoPattern
 from graftform.patterns import Chain, Choice, Mixed, One, Times, chain, choice, mixed, one, times
+from graftform.wholes import FIGURES
 
-FIGURES = "0123456789"
 SHORT_COUNTS = {"?": (0, 1), "*": (0, None), "+": (1, None)}
 
 

@@ -1,5 +1,7 @@
 """Whole numbers."""
 
+FIGURES = "0123456789"
+
 
 def is_whole(thing):
     """Whether it is an int that is no truth: True and False are ints to Python alone."""

@@ -186,3 +186,90 @@ def sample_doc(chance, size, names="abx"):
         parts.append(chance.randint(1, left))
         left -= parts[-1]
     return (chance.choice(names), tuple(sample_doc(chance, part, names) for part in parts))
+
+
+def way_of(machine, row):
+    """Point 33, by the states of the row's documents."""
+    states = [plain.state(machine, doc) for doc in row]
+    way = []
+    for here in range(len(machine[4])):
+        for child in states:
+            here = machine[3][here][child]
+        way.append(here)
+    return tuple(way) + ((-1,) if not states else (states[0],) if len(states) == 1 else (-2,))
+
+
+def way_joined(way, other):
+    end = other[-1] if way[-1] == -1 else way[-1] if other[-1] == -1 else -2
+    return tuple(other[state] for state in way[:-1]) + (end,)
+
+
+def way_of_state(machine, state):
+    return tuple(row[state] for row in machine[3]) + (state,)
+
+
+def way_filled(machine, items, way):
+    whole = tuple(range(len(machine[4]))) + (-1,)
+    for item in items:
+        own = way
+        if item != "*":
+            own = way_of_state(machine, way_filled(machine, item[1], way)[plain.state(machine, (item[0], ()))])
+        whole = way_joined(whole, own)
+    return whole
+
+
+def back(turner, machine, most=64):
+    """Point 34: the pairs and the machine; None where there are more states than that."""
+    names = sorted({*machine[1], *(name for name, _ in turner)})
+    rules = dict(turner)
+
+    def row_way(pair):
+        name = (names + ["nosuch"])[pair[0]]
+        return way_filled(machine, rules.get(name, ((name, ("*",)),)), pair[1])
+
+    def step(pair, child):
+        return pair[0], way_joined(pair[1], row_way(child))
+
+    def has(pair, form):
+        return row_way(pair)[-1] >= 0 and plain.in_form(machine, row_way(pair)[-1], form)
+
+    none = tuple(range(len(machine[4]))) + (-1,)
+    firsts = [(number, none) for number in range(len(names) + 1)]
+    states = plain.numbered(firsts, step, most)
+    return None if states is None else (tuple(states), plain.table(machine[0], names, firsts, step, has, most))
+
+
+def couples(one, form, other, most=64):
+    """The pairs of states of two machines as they come, and the machine that tells of them whether they have f."""
+    names, firsts = plain.pair_starts(one, other)
+    step = plain.pair_step(one, other)
+    pairs = plain.numbered(firsts, step, most)
+    if pairs is None:
+        return None
+    return pairs, plain.table(("is",), names, firsts, step, lambda pair, _: plain.in_form(one, pair[0], form), most)
+
+
+def comes(turner, one, form, other):
+    """Point 36; None where there are too many states."""
+    drawn = back(turner, other)
+    told = drawn and couples(one, form, drawn[1])
+    if told is None:
+        return None
+    standing = {pair[1] for pair, truth in zip(told[0], plain.stands(told[1], "is")) if truth}
+    found = []
+    for name, items in turner:
+        number = drawn[1][1].index(name)
+        for place, item in item_places(items):
+            sets = set()
+            for state in standing:
+                if drawn[0][state][0] == number:
+                    made = way_filled(other, (item,), drawn[0][state][1])[-1]
+                    sets.add(tuple(form for form in other[0] if plain.in_form(other, made, form)))
+            found.append((name, place, sorted(sets)))
+    return found
+
+
+def is_turned(turner, doc, machine, goal):
+    """Point 35: whether a document is turned into just one, which has the form."""
+    row = turned(turner, doc)
+    return len(row) == 1 and plain.has_form(machine, row[0], goal)
