@@ -211,6 +211,11 @@ class Chained(RefusalCase):
                 self.assert_refused(TooMany, {}, chained, first, second)
             else:
                 self.assertEqual(chained(first, second), expected)
+        # So it is where the second one's own items end without a hole.
+        full = (("b", nest("cdefghij", ())),)
+        self.assertEqual(chained((("a", nest("b", ())),), full)[0], ("a", full[0][1]))
+        self.assert_refused(TooMany, {}, chained, (("a", nest("xb", ())),), full)
+        self.assert_refused(TooMany, {}, chained, (("a", nest("xb", ("*",))),), full)
         # What is left out doesn't count.
         first = (("a", (("f", nest("bbbbbbb", ())),)),)
         second += (("f", (("g", ()),)),)
