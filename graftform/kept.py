@@ -107,7 +107,8 @@ class Kept:
         """Give a place another name; or NoPlace, or then NoName, or then TooLarge."""
         self.doc = not_too_large(renamed(self.doc, place, name))
         line = spots_down(self.top, place)
-        line[-1].name = name
+        spot = line[-1]
+        spot.name = name
         self.seen = look_upward(self.machine, line, place)
 
     def forms_at(self, place):
